@@ -26,7 +26,7 @@ func Open(key string, nonce string, path string, sealed string) (string, api.Err
 	end := len(sealed) - tagBytes
 	cover := sealed[:end]
 	told := readWord64(sealed, end)
-	// The tags are compared as one word: that takes the same time wherever they differ.
+	// The tags are compared as one word, not byte by byte: how long that takes should not tell where they differ.
 	if told != tagOf(key, nonce, path, cover) {
 		return "", api.ErrSealed
 	}
@@ -51,7 +51,7 @@ func mask(key string, nonce string, text string) string {
 	return string(out)
 }
 
-// tagOf gives the tag; the path's length goes ahead of it, so that no byte can pass from the path to what follows.
+// tagOf gives the tag of a cover. The path's length is hashed ahead of the path, so that no byte can pass from the path to the nonce unseen.
 func tagOf(key string, nonce string, path string, cover string) uint64 {
 	length := string([]byte{byte(len(path))})
 	return hash(key[streamKeyBytes:], length+path+nonce+cover)
