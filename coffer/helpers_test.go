@@ -25,6 +25,9 @@ func counting(from, n int) string {
 // exampleKey is the key K of the document's examples.
 var exampleKey = counting(0, api.KeyBytes)
 
+// keyText gives the text of the key of a number, as these tests let keys come: the first is that of the examples.
+func keyText(number int) string { return counting(40*(number-1), api.KeyBytes) }
+
 // noServers are numbers that no server has, whatever the settings.
 var noServers = []int{-1, api.MaxServers, api.MaxServers + 1, 256, 1 << 32, -1 << 32, math.MaxInt, math.MinInt}
 
@@ -121,6 +124,64 @@ func (x book) compact(rev int, want api.Errno) {
 	}
 }
 
+// stage lets the key of a number come.
+func (x book) stage(number int, want api.Errno) {
+	x.t.Helper()
+	answer := number
+	if want != api.OK {
+		answer = 0
+	}
+	if got, e := x.Stage(keyText(number)); got != answer || e != want {
+		x.t.Fatalf("P11: Stage of key %d = %d, %d, want %d, %d", number, got, e, answer, want)
+	}
+}
+
+func (x book) promote(want api.Errno) {
+	x.t.Helper()
+	if e := x.Promote(); e != want {
+		x.t.Fatalf("P11: Promote = %d, want %d", e, want)
+	}
+}
+
+func (x book) migrate(n, moved int, want api.Errno) {
+	x.t.Helper()
+	if got, e := x.Migrate(n); got != moved || e != want {
+		x.t.Fatalf("P12: Migrate(%d) = %d, %d, want %d, %d", n, got, e, moved, want)
+	}
+}
+
+func (x book) gate(want api.Errno) {
+	x.t.Helper()
+	if e := x.Gate(); e != want {
+		x.t.Fatalf("P12: Gate = %d, want %d", e, want)
+	}
+}
+
+func (x book) destroy(k int, want api.Errno) {
+	x.t.Helper()
+	if e := x.Destroy(k); e != want {
+		x.t.Fatalf("P12: Destroy(%d) = %d, want %d", k, e, want)
+	}
+}
+
+// turn lets the key of a number come and write; its servers, from 0 on, have seen it come.
+func (x book) turn(number, servers int) {
+	x.t.Helper()
+	x.stage(number, api.OK)
+	for s := range servers {
+		x.refresh(s, api.OK)
+	}
+	x.promote(api.OK)
+}
+
+// turnIs looks at Turn alone.
+func (x book) turnIs(want int) {
+	x.t.Helper()
+	if got := x.State().Turn; got != want {
+		x.t.Fatalf("P11, P12: Turn is %d, want %d", got, want)
+	}
+}
+
 func (x book) state(want api.State) {
 	x.t.Helper()
 	if got := x.State(); got != want {
@@ -156,8 +217,13 @@ func nonceOf(draw int) string {
 
 // secret gives the entry of a Put, sealed with the key of the examples.
 func secret(path, plain string, rev, draw int) api.Entry {
-	text, _ := seal.Seal(exampleKey, nonceOf(draw), path, plain)
-	return api.Entry{Path: path, Rev: rev, Key: 1, Draw: draw, Sealed: text}
+	return sealedBy(1, path, plain, rev, draw)
+}
+
+// sealedBy gives the entry of a Put, sealed with the key of a number.
+func sealedBy(number int, path, plain string, rev, draw int) api.Entry {
+	text, _ := seal.Seal(keyText(number), nonceOf(draw), path, plain)
+	return api.Entry{Path: path, Rev: rev, Key: number, Draw: draw, Sealed: text}
 }
 
 // deletion gives the entry of a Delete.

@@ -28,6 +28,29 @@ func (x *Coffer) writer(epoch int) int {
 	return number
 }
 
+// come adds a key, which came with the present epoch; the answer is its number.
+func (x *Coffer) come(text string) int {
+	x.keys = append(x.keys, key{text: text, came: x.state.Epoch})
+	return len(x.keys)
+}
+
+// takeOver lets the newest key write, from the present epoch on.
+func (x *Coffer) takeOver() {
+	number := len(x.keys)
+	x.keys[number-1].wrote = x.state.Epoch
+	x.state.Write = number
+}
+
+// oldKeyLeft tells whether some key is not destroyed beside the one that writes.
+func (x *Coffer) oldKeyLeft() bool {
+	for i := 0; i < len(x.keys); i++ {
+		if i+1 != x.state.Write && !x.keys[i].destroyed() {
+			return true
+		}
+	}
+	return false
+}
+
 // sealed makes a draw, and gives what comes to be an entry, but for its revision.
 func (x *Coffer) sealed(number int, path string, plain string) (api.Entry, api.Errno) {
 	by := x.key(number)

@@ -10,18 +10,34 @@ import (
 	"coffer/api"
 )
 
-// model does what P6 to P10 say, in the plainest way, with secrets in the open: of each path all that was ever committed, and from which revision on it may be asked for.
+// model does what P6 to P12 say, in the plainest way, with secrets in the open: of each path all that was ever committed, and from which revision on it may be asked for.
 type model struct {
 	room, rev, floor, draws int
-	seen                    []bool
+	turn                    int
+	writers                 []int  // of each epoch, from 0 on, the key that wrote when it came
+	promoted                int    // the epoch of the last Promote; 0, if there was none
+	destroyed               []bool // of each key: that of number k at k - 1
+	seen                    []int
 	under                   []*deed
 	deeds                   []deed // all that were committed: that of revision r at r - 1
 	givenUp                 []bool
 }
 
 type deed struct {
-	op   api.Op
-	draw int
+	op               api.Op
+	epoch, key, draw int
+}
+
+func newModel(servers, room int) *model {
+	return &model{room: room, turn: api.Still, writers: []int{0, 1}, destroyed: []bool{false}, seen: make([]int, servers), under: make([]*deed, servers)}
+}
+
+func (m *model) epoch() int { return len(m.writers) - 1 }
+
+func (m *model) write() int { return m.writers[m.epoch()] }
+
+func (m *model) state() api.State {
+	return api.State{Rev: m.rev, Floor: m.floor, Epoch: m.epoch(), Write: m.write(), Turn: m.turn}
 }
 
 func (m *model) isServer(s int) bool { return slices.Contains([]int{0, 1, 2, 3}[:len(m.seen)], s) }
@@ -32,7 +48,7 @@ func (m *model) entries() []api.Entry {
 		switch {
 		case m.givenUp[i]:
 		case d.op.Kind == api.Put:
-			list = append(list, secret(d.op.Path, d.op.Plain, i+1, d.draw))
+			list = append(list, sealedBy(d.key, d.op.Path, d.op.Plain, i+1, d.draw))
 		default:
 			list = append(list, deletion(d.op.Path, i+1))
 		}
@@ -59,16 +75,21 @@ func (m *model) begin(s int, op api.Op) api.Errno {
 		return api.ErrServer
 	case m.under[s] != nil:
 		return api.ErrBusy
-	case !m.seen[s]:
+	case m.seen[s] == 0:
 		return api.ErrBlind
 	case op.Kind != api.Put && op.Kind != api.Delete, len(op.Path) == 0, len(op.Path) > 16, len(op.Plain) > 64, op.Kind == api.Delete && op.Plain != "", op.Rev < -1:
 		return api.ErrOp
 	}
-	m.under[s] = &deed{op: op}
+	d := &deed{op: op, epoch: m.seen[s]}
 	if op.Kind == api.Put {
+		d.key = m.writers[m.seen[s]]
+		if m.destroyed[d.key-1] {
+			return api.ErrGone
+		}
 		m.draws++
-		m.under[s].draw = m.draws
+		d.draw = m.draws
 	}
+	m.under[s] = d
 	return api.OK
 }
 
@@ -83,6 +104,8 @@ func (m *model) commit(s int) (int, api.Errno) {
 	m.under[s] = nil
 	_, rev := m.at(d.op.Path, m.rev)
 	switch {
+	case d.epoch < m.promoted:
+		return 0, api.ErrStale
 	case d.op.Rev != -1 && d.op.Rev != rev:
 		return 0, api.ErrConflict
 	case d.op.Kind == api.Delete && rev == 0:
@@ -90,17 +113,22 @@ func (m *model) commit(s int) (int, api.Errno) {
 	case len(m.entries()) == m.room:
 		return 0, api.ErrFull
 	}
-	m.rev++
-	m.deeds = append(m.deeds, *d)
-	m.givenUp = append(m.givenUp, false)
+	m.add(*d)
 	return m.rev, api.OK
 }
 
+func (m *model) add(d deed) {
+	m.rev++
+	m.deeds = append(m.deeds, d)
+	m.givenUp = append(m.givenUp, false)
+}
+
+// get knows neither ErrKey nor ErrGone: no read ever answers them (P15).
 func (m *model) get(s int, path string, rev int, atRev bool) (string, int, api.Errno) {
 	switch {
 	case !m.isServer(s):
 		return "", 0, api.ErrServer
-	case !m.seen[s]:
+	case m.seen[s] == 0:
 		return "", 0, api.ErrBlind
 	case atRev && (rev < m.floor || rev > m.rev):
 		return "", 0, api.ErrRev
@@ -124,6 +152,100 @@ func (m *model) compact(rev int) api.Errno {
 		// A deed is given up if a later one of the path takes its place by then, or if it left nothing.
 		_, since := m.at(d.op.Path, rev)
 		m.givenUp[i] = since != i+1
+	}
+	return api.OK
+}
+
+func (m *model) stage(text string) (int, api.Errno) {
+	switch {
+	case len(text) != 48:
+		return 0, api.ErrArg
+	case len(m.destroyed) == 6:
+		return 0, api.ErrMany
+	case m.turn != api.Still:
+		return 0, api.ErrTurn
+	}
+	m.destroyed = append(m.destroyed, false)
+	m.writers = append(m.writers, m.write())
+	m.turn = api.Staged
+	return len(m.destroyed), api.OK
+}
+
+func (m *model) promote() api.Errno {
+	switch {
+	case m.turn != api.Staged:
+		return api.ErrTurn
+	case slices.Min(m.seen) != m.epoch():
+		return api.ErrWait
+	}
+	m.writers = append(m.writers, len(m.destroyed))
+	m.promoted = m.epoch()
+	m.turn = api.Promoted
+	return api.OK
+}
+
+// old gives the paths that are to be moved, in order.
+func (m *model) old() []string {
+	var paths []string
+	for i, d := range m.deeds {
+		if _, since := m.at(d.op.Path, m.rev); since == i+1 && d.key != m.write() {
+			paths = append(paths, d.op.Path)
+		}
+	}
+	slices.Sort(paths)
+	return paths
+}
+
+func (m *model) migrate(n int) (int, api.Errno) {
+	switch {
+	case n < 0 || n > 20:
+		return 0, api.ErrArg
+	case m.turn != api.Promoted && m.turn != api.Gated:
+		return 0, api.ErrTurn
+	}
+	paths := m.old()
+	for i, path := range paths[:min(n, len(paths))] {
+		if len(m.entries()) == m.room {
+			return i, api.ErrFull
+		}
+		plain, _ := m.at(path, m.rev)
+		m.draws++
+		m.add(deed{op: put(path, plain, -1), key: m.write(), draw: m.draws})
+	}
+	return min(n, len(paths)), api.OK
+}
+
+func (m *model) gate() api.Errno {
+	if m.turn != api.Promoted && m.turn != api.Gated {
+		return api.ErrTurn
+	}
+	for i, d := range m.deeds {
+		if !m.givenUp[i] && d.op.Kind == api.Put && d.key != m.write() {
+			return api.ErrUsed
+		}
+	}
+	m.turn = api.Gated
+	return api.OK
+}
+
+func (m *model) destroy(k int) api.Errno {
+	switch {
+	case k < 1 || k > len(m.destroyed):
+		return api.ErrNone
+	case m.destroyed[k-1]:
+		return api.ErrGone
+	case k == m.write() || m.turn != api.Gated:
+		return api.ErrGate
+	}
+	m.destroyed[k-1] = true
+	left := 0
+	for _, d := range m.destroyed {
+		if !d {
+			left++
+		}
+	}
+	if left == 1 {
+		m.turn = api.Still
 	}
 	return api.OK
 }
@@ -174,14 +296,14 @@ func (l luck) op(m *model) api.Op {
 	return op
 }
 
-// step makes one call of the coffer and of the model, and compares the answers.
+// step makes one call that servers make, or Compact, of the coffer and of the model, and compares the answers.
 func step(x book, m *model, l luck) {
 	x.t.Helper()
 	s := l.server(len(m.seen))
 	switch l.Intn(14) {
 	case 0, 1:
 		if m.isServer(s) {
-			m.seen[s] = true
+			m.seen[s] = m.epoch()
 			x.refresh(s, api.OK)
 		} else {
 			x.refresh(s, api.ErrServer)
@@ -191,7 +313,7 @@ func step(x book, m *model, l luck) {
 			return
 		}
 		if m.isServer(s) {
-			m.seen[s] = false
+			m.seen[s] = 0
 			m.under[s] = nil
 			x.crash(s, api.OK)
 		} else {
@@ -217,20 +339,89 @@ func step(x book, m *model, l luck) {
 	}
 }
 
+// turnStep makes one call that turns the key, or what such calls wait for, of both, and compares the answers.
+func turnStep(x book, m *model, l luck) {
+	x.t.Helper()
+	switch l.Intn(8) {
+	case 0:
+		text := keyText(len(m.destroyed) + 1)
+		if l.Intn(8) == 0 {
+			wrong := noKeys()
+			text = wrong[l.Intn(len(wrong))]
+		}
+		number, e := m.stage(text)
+		if got, ge := x.Stage(text); got != number || ge != e {
+			x.t.Fatalf("P11: Stage of %d bytes = %d, %d, want %d, %d", len(text), got, ge, number, e)
+		}
+	case 1:
+		x.promote(m.promote())
+	case 2:
+		n := l.Intn(api.MaxMove + 1)
+		if l.Intn(8) == 0 {
+			n = wrongMoves[l.Intn(len(wrongMoves))]
+		}
+		moved, e := m.migrate(n)
+		x.migrate(n, moved, e)
+	case 3:
+		x.gate(m.gate())
+	case 4, 5:
+		k := m.write() - 1
+		if l.Intn(2) == 0 {
+			k = l.Intn(api.MaxKeys+3) - 1
+		}
+		x.destroy(k, m.destroy(k))
+	case 6:
+		for s := range m.seen {
+			m.seen[s] = m.epoch()
+			x.refresh(s, api.OK)
+		}
+	case 7:
+		x.compact(m.rev, m.compact(m.rev))
+	}
+}
+
 // TestAgainstModel makes drawn calls, right and wrong ones, and looks at everything after each.
 func TestAgainstModel(t *testing.T) {
 	l := luck{rand.New(rand.NewSource(10))}
+	turned := 0
 	for range 150 {
 		servers, room := 1+l.Intn(api.MaxServers), 1+l.Intn(api.MaxRoom)
 		if l.Intn(2) == 0 {
 			room = 1 + l.Intn(6)
 		}
+		often := []int{5, 10, 40}[l.Intn(3)]
 		x := blind(t, servers, room)
-		m := &model{room: room, seen: make([]bool, servers), under: make([]*deed, servers)}
-		for range 250 {
-			step(x, m, l)
-			x.state(api.State{Rev: m.rev, Floor: m.floor, Epoch: 1, Write: 1, Turn: api.Still})
+		m := newModel(servers, room)
+		for range 500 {
+			if l.Intn(often) < 3 {
+				turnStep(x, m, l)
+			} else {
+				step(x, m, l)
+			}
+			x.state(m.state())
 			x.entries(m.entries()...)
+			soundKeys(x, m)
 		}
+		if m.destroyed[0] {
+			turned++
+		}
+	}
+	if turned < 50 {
+		t.Errorf("only %d of 150 coffers were turned: the draws look at too little", turned)
+	}
+}
+
+// soundKeys looks that no entry has a key that was destroyed, and that no two have one draw (P15).
+func soundKeys(x book, m *model) {
+	x.t.Helper()
+	draws := map[int]bool{}
+	for _, entry := range x.Entries() {
+		if entry.Gone {
+			continue
+		}
+		if m.destroyed[entry.Key-1] || draws[entry.Draw] {
+			x.t.Fatalf("P15: %+v is kept, of a key that was destroyed or a draw that was used", entry)
+		}
+		draws[entry.Draw] = true
 	}
 }

@@ -28,3 +28,13 @@ func (x *Coffer) Crash(s int) api.Errno {
 }
 
 func (x *Coffer) isServer(s int) bool { return s >= 0 && s < len(x.servers) }
+
+// allHaveSeen tells whether all servers have seen the present epoch.
+func (x *Coffer) allHaveSeen() bool {
+	for i := 0; i < len(x.servers); i++ {
+		if x.servers[i].seen < x.state.Epoch {
+			return false
+		}
+	}
+	return true
+}

@@ -8,21 +8,21 @@ import (
 	"coffer/seal"
 )
 
-// These tests lay keys, epochs and entries into the coffer by hand: they look at what P8 and P9 say of several keys.
+// These tests lay keys, epochs and entries into the coffer by hand, or look at what it keeps: they are about what the calls never bring about, or never show.
 
 func textOfKey(number int) string { return strings.Repeat(string(rune('0'+number)), api.KeyBytes) }
 
-// arrive lets a key come, which does not write yet.
+// arrive lets a key come, which does not write yet, though Turn may not be Still.
 func arrive(x *Coffer) {
-	x.state.Epoch++
-	x.keys = append(x.keys, key{text: textOfKey(len(x.keys) + 1), came: x.state.Epoch})
+	x.state.Turn = api.Still
+	x.Stage(textOfKey(len(x.keys) + 1))
 }
 
-// takeOver lets the newest key write.
+// takeOver lets the newest key write, though servers may not have seen it.
 func takeOver(x *Coffer) {
 	x.state.Epoch++
-	x.state.Write = len(x.keys)
-	x.keys[len(x.keys)-1].wrote = x.state.Epoch
+	x.state.Turn = api.Promoted
+	x.takeOver()
 }
 
 func destroy(x *Coffer, number int) { x.keys[number-1].text = "" }
@@ -89,88 +89,6 @@ func TestSealsWithTheKeyThatItHasSeen(t *testing.T) {
 		if got.entry != entry || got.epoch != s+1 {
 			t.Errorf("P8: server %d has %+v under way, want %+v", s, got, entry)
 		}
-	}
-}
-
-// Operations of an epoch below that of the last Promote are stale; those of that epoch, and above it, are not.
-func TestStale(t *testing.T) {
-	x := newCoffer(t, 4)
-	x.Refresh(0)
-	begins(t, x, 0, put("a", "one"), api.OK)
-	arrive(x)
-	x.Refresh(1)
-	begins(t, x, 1, api.Op{Kind: api.Delete, Path: "a", Rev: 7}, api.OK)
-	takeOver(x)
-	x.Refresh(2)
-	begins(t, x, 2, put("c", "three"), api.OK)
-	arrive(x)
-	x.Refresh(3)
-	begins(t, x, 3, put("d", "four"), api.OK)
-	commits(t, x, 0, 0, api.ErrStale)
-	commits(t, x, 0, 0, api.ErrIdle)
-	commits(t, x, 1, 0, api.ErrStale)
-	commits(t, x, 1, 0, api.ErrIdle)
-	commits(t, x, 2, 1, api.OK)
-	commits(t, x, 3, 2, api.OK)
-	// A server that was not refreshed begins, but is stale again.
-	begins(t, x, 0, put("a", "one"), api.OK)
-	commits(t, x, 0, 0, api.ErrStale)
-	// To be refreshed while it is under way does not help: the operation is of the epoch that was seen at its beginning.
-	begins(t, x, 1, put("a", "one"), api.OK)
-	x.Refresh(1)
-	commits(t, x, 1, 0, api.ErrStale)
-	begins(t, x, 1, put("a", "one"), api.OK)
-	commits(t, x, 1, 3, api.OK)
-}
-
-// A key that has only come makes nothing stale.
-func TestNotStaleYet(t *testing.T) {
-	x := newCoffer(t, 1)
-	x.Refresh(0)
-	begins(t, x, 0, put("a", "one"), api.OK)
-	arrive(x)
-	commits(t, x, 0, 1, api.OK)
-	want := api.Entry{Path: "a", Rev: 1, Key: 1, Draw: 1, Sealed: sealedBy(1, 1, "a", "one")}
-	if x.entries[0] != want {
-		t.Errorf("P8: the entry is %+v, want %+v", x.entries[0], want)
-	}
-}
-
-// ErrStale stands ahead of ErrConflict, ErrNone and ErrFull.
-func TestStaleStandsFirst(t *testing.T) {
-	for _, op := range []api.Op{{Kind: api.Put, Path: "a", Rev: 5}, {Kind: api.Delete, Path: "b", Rev: -1}, put("a", "")} {
-		x := newCoffer(t, 2)
-		x.room = 1
-		x.Refresh(0)
-		begins(t, x, 0, op, api.OK)
-		arrive(x)
-		takeOver(x)
-		x.Refresh(1)
-		begins(t, x, 1, put("a", "one"), api.OK)
-		commits(t, x, 1, 1, api.OK)
-		commits(t, x, 0, 0, api.ErrStale)
-	}
-}
-
-// A Put with a key that was destroyed does not begin; a Delete needs no key.
-func TestBeginWithDestroyedKey(t *testing.T) {
-	x := newCoffer(t, 2)
-	x.Refresh(0)
-	arrive(x)
-	takeOver(x)
-	x.Refresh(1)
-	destroy(x, 1)
-	begins(t, x, 0, put("a", "one"), api.ErrGone)
-	commits(t, x, 0, 0, api.ErrIdle)
-	begins(t, x, 0, put("", "one"), api.ErrOp)
-	begins(t, x, 0, api.Op{Kind: api.Delete, Path: "a", Rev: -1}, api.OK)
-	begins(t, x, 0, put("a", "one"), api.ErrBusy)
-	commits(t, x, 0, 0, api.ErrStale)
-	// No draw was made for it.
-	begins(t, x, 1, put("a", "one"), api.OK)
-	commits(t, x, 1, 1, api.OK)
-	if x.entries[0].Draw != 1 || x.entries[0].Key != 2 {
-		t.Errorf("P8: the entry is %+v, want draw 1 and key 2", x.entries[0])
 	}
 }
 
@@ -275,5 +193,118 @@ func TestUnderWayIsSealed(t *testing.T) {
 	commits(t, x, 0, 1, api.OK)
 	if x.servers[0] != (server{seen: 1}) {
 		t.Errorf("P8: the server is left with %+v", x.servers[0])
+	}
+}
+
+// turned gives a coffer whose second key writes, with secrets of the paths under the first.
+func turned(t *testing.T, room int, paths ...string) *Coffer {
+	t.Helper()
+	x := newCoffer(t, 1)
+	x.room = room
+	x.Refresh(0)
+	for i, path := range paths {
+		begins(t, x, 0, put(path, path+"!"), api.OK)
+		commits(t, x, 0, i+1, api.OK)
+	}
+	if number, e := x.Stage(textOfKey(2)); number != 2 || e != api.OK {
+		t.Fatalf("P11: Stage = %d, %d", number, e)
+	}
+	x.Refresh(0)
+	if e := x.Promote(); e != api.OK {
+		t.Fatalf("P11: Promote = %d", e)
+	}
+	return x
+}
+
+func migrates(t *testing.T, x *Coffer, n, moved int, want api.Errno) {
+	t.Helper()
+	if got, e := x.Migrate(n); got != moved || e != want {
+		t.Fatalf("P12: Migrate(%d) = %d, %d, want %d, %d", n, got, e, moved, want)
+	}
+}
+
+// A path whose newest entry does not open is passed over: it takes no room, no draw and no revision.
+func TestMigratePassesOverWhatDoesNotOpen(t *testing.T) {
+	x := turned(t, 6, "a", "b", "a", "c")
+	x.entries[2].Draw = 9 // the newest of "a"; the older one would open
+	migrates(t, x, 1, 1, api.OK)
+	migrates(t, x, 20, 1, api.OK)
+	for i, path := range []string{"b", "c"} {
+		want := api.Entry{Path: path, Rev: 5 + i, Key: 2, Draw: 5 + i, Sealed: sealedBy(2, 5+i, path, path+"!")}
+		if got := x.entries[4+i]; got != want {
+			t.Errorf("P12: the entry is %+v, want %+v", got, want)
+		}
+	}
+	// The coffer is full by now, but there is nothing to move.
+	migrates(t, x, 20, 0, api.OK)
+	if e := x.Compact(6); e != api.OK {
+		t.Fatalf("P10: Compact = %d", e)
+	}
+	if e := x.Gate(); e != api.ErrUsed {
+		t.Errorf("P12: Gate = %d, want ErrUsed", e)
+	}
+	if e := x.Destroy(1); e != api.ErrGate {
+		t.Errorf("P12: Destroy(1) = %d, want ErrGate", e)
+	}
+}
+
+// What is under a key that was destroyed does not open either.
+func TestMigratePassesOverDestroyedKeys(t *testing.T) {
+	x := turned(t, 10, "a", "b")
+	destroy(x, 1)
+	migrates(t, x, 20, 0, api.OK)
+	if len(x.entries) != 2 || x.draws != 2 {
+		t.Errorf("P12: %d entries and %d draws, want 2 of each", len(x.entries), x.draws)
+	}
+}
+
+// Which epoch a server has seen does not matter to Migrate.
+func TestMigrateNeedsNoServer(t *testing.T) {
+	x := turned(t, 10, "a")
+	x.Crash(0)
+	migrates(t, x, 20, 1, api.OK)
+}
+
+// Secrets under several old keys are moved in the order of their paths; the turn is over when all old keys are destroyed, in whatever order.
+func TestSeveralOldKeys(t *testing.T) {
+	for _, order := range [][]int{{1, 2}, {2, 1}} {
+		x := turned(t, 10, "b")
+		x.Refresh(0)
+		begins(t, x, 0, put("a", "a!"), api.OK)
+		commits(t, x, 0, 2, api.OK)
+		arrive(x)
+		takeOver(x)
+		migrates(t, x, 20, 2, api.OK)
+		if x.entries[2].Path != "a" || x.entries[3].Path != "b" || x.entries[2].Key != 3 || x.entries[3].Key != 3 {
+			t.Errorf("P12: the entries are %+v", x.entries)
+		}
+		if e := x.Compact(4); e != api.OK {
+			t.Fatalf("P10: Compact = %d", e)
+		}
+		if e := x.Gate(); e != api.OK {
+			t.Fatalf("P12: Gate = %d", e)
+		}
+		for i, k := range order {
+			if e := x.Destroy(k); e != api.OK {
+				t.Errorf("P12: Destroy(%d) = %d", k, e)
+			}
+			if want := []int{api.Gated, api.Still}[i]; x.state.Turn != want {
+				t.Errorf("P12: Turn is %d, want %d", x.state.Turn, want)
+			}
+		}
+	}
+}
+
+// Of a key that was destroyed nothing is left; the others stay.
+func TestNothingIsLeftOfADestroyedKey(t *testing.T) {
+	x := turned(t, 10)
+	if e := x.Gate(); e != api.OK {
+		t.Fatalf("P12: Gate = %d", e)
+	}
+	if e := x.Destroy(1); e != api.OK {
+		t.Fatalf("P12: Destroy(1) = %d", e)
+	}
+	if x.keys[0].text != "" || x.keys[1].text != textOfKey(2) {
+		t.Errorf("P12: the keys are %+v", x.keys)
 	}
 }
