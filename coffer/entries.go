@@ -13,6 +13,16 @@ func (x *Coffer) newest(path string, rev int) api.Entry {
 	return found
 }
 
+// kept gives the entry of a revision; one of the revision 0, which no entry has, if none is kept.
+func (x *Coffer) kept(rev int) api.Entry {
+	for i := 0; i < len(x.entries); i++ {
+		if x.entries[i].Rev == rev {
+			return x.entries[i]
+		}
+	}
+	return api.Entry{}
+}
+
 // revOf gives the revision of a path; 0, if it has no secret.
 func (x *Coffer) revOf(path string) int {
 	entry := x.newest(path, x.state.Rev)

@@ -164,6 +164,34 @@ func (x book) destroy(k int, want api.Errno) {
 	}
 }
 
+func (x book) plant(path string, rev int, want api.Errno) {
+	x.t.Helper()
+	if e := x.Plant(path, rev); e != want {
+		x.t.Fatalf("P13: Plant(%q, %d) = %d, want %d", path, rev, e, want)
+	}
+}
+
+func (x book) place(pod, node int, want api.Errno) {
+	x.t.Helper()
+	if e := x.Place(pod, node); e != want {
+		x.t.Fatalf("P14: Place(%d, %d) = %d, want %d", pod, node, e, want)
+	}
+}
+
+func (x book) refer(pod int, path string, on bool, want api.Errno) {
+	x.t.Helper()
+	if e := x.Refer(pod, path, on); e != want {
+		x.t.Fatalf("P14: Refer(%d, %q, %t) = %d, want %d", pod, path, on, e, want)
+	}
+}
+
+func (x book) fetch(s, node int, path, plain string, want api.Errno) {
+	x.t.Helper()
+	if p, e := x.Fetch(s, node, path); p != plain || e != want {
+		x.t.Fatalf("P14: Fetch(%d, %d, %q) = %q, %d, want %q, %d", s, node, path, p, e, plain, want)
+	}
+}
+
 // turn lets the key of a number come and write; its servers, from 0 on, have seen it come.
 func (x book) turn(number, servers int) {
 	x.t.Helper()
@@ -224,6 +252,12 @@ func secret(path, plain string, rev, draw int) api.Entry {
 func sealedBy(number int, path, plain string, rev, draw int) api.Entry {
 	text, _ := seal.Seal(keyText(number), nonceOf(draw), path, plain)
 	return api.Entry{Path: path, Rev: rev, Key: number, Draw: draw, Sealed: text}
+}
+
+// planted gives what Plant makes of an entry.
+func planted(entry api.Entry, path string, rev int) api.Entry {
+	entry.Path, entry.Rev = path, rev
+	return entry
 }
 
 // deletion gives the entry of a Delete.

@@ -10,7 +10,7 @@ import (
 	"coffer/api"
 )
 
-// model does what P6 to P12 say, in the plainest way, with secrets in the open: of each path all that was ever committed, and from which revision on it may be asked for.
+// model does what P6 to P14 say, in the plainest way, with secrets in the open: of each path all that was ever committed, and from which revision on it may be asked for.
 type model struct {
 	room, rev, floor, draws int
 	turn                    int
@@ -21,15 +21,27 @@ type model struct {
 	under                   []*deed
 	deeds                   []deed // all that were committed: that of revision r at r - 1
 	givenUp                 []bool
+	nodes                   [8]int             // of each pod
+	needs                   [8]map[string]bool // of each pod
 }
 
+// deed is an operation, or what Plant made of one.
 type deed struct {
 	op               api.Op
 	epoch, key, draw int
+	sealedFor        string // the path that it was sealed with
 }
 
+// opens tells whether it lies under the path that it was sealed with.
+func (d deed) opens() bool { return d.sealedFor == d.op.Path }
+
 func newModel(servers, room int) *model {
-	return &model{room: room, turn: api.Still, writers: []int{0, 1}, destroyed: []bool{false}, seen: make([]int, servers), under: make([]*deed, servers)}
+	m := &model{room: room, turn: api.Still, writers: []int{0, 1}, destroyed: []bool{false}, seen: make([]int, servers), under: make([]*deed, servers)}
+	for pod := range m.nodes {
+		m.nodes[pod] = -1
+		m.needs[pod] = map[string]bool{}
+	}
+	return m
 }
 
 func (m *model) epoch() int { return len(m.writers) - 1 }
@@ -48,7 +60,7 @@ func (m *model) entries() []api.Entry {
 		switch {
 		case m.givenUp[i]:
 		case d.op.Kind == api.Put:
-			list = append(list, sealedBy(d.key, d.op.Path, d.op.Plain, i+1, d.draw))
+			list = append(list, planted(sealedBy(d.key, d.sealedFor, d.op.Plain, 0, d.draw), d.op.Path, i+1))
 		default:
 			list = append(list, deletion(d.op.Path, i+1))
 		}
@@ -80,7 +92,7 @@ func (m *model) begin(s int, op api.Op) api.Errno {
 	case op.Kind != api.Put && op.Kind != api.Delete, len(op.Path) == 0, len(op.Path) > 16, len(op.Plain) > 64, op.Kind == api.Delete && op.Plain != "", op.Rev < -1:
 		return api.ErrOp
 	}
-	d := &deed{op: op, epoch: m.seen[s]}
+	d := &deed{op: op, epoch: m.seen[s], sealedFor: op.Path}
 	if op.Kind == api.Put {
 		d.key = m.writers[m.seen[s]]
 		if m.destroyed[d.key-1] {
@@ -140,6 +152,9 @@ func (m *model) get(s int, path string, rev int, atRev bool) (string, int, api.E
 	if since == 0 {
 		return "", 0, api.ErrNone
 	}
+	if !m.deeds[since-1].opens() {
+		return "", 0, api.ErrSealed
+	}
 	return plain, since, api.OK
 }
 
@@ -188,7 +203,7 @@ func (m *model) promote() api.Errno {
 func (m *model) old() []string {
 	var paths []string
 	for i, d := range m.deeds {
-		if _, since := m.at(d.op.Path, m.rev); since == i+1 && d.key != m.write() {
+		if _, since := m.at(d.op.Path, m.rev); since == i+1 && d.key != m.write() && d.opens() {
 			paths = append(paths, d.op.Path)
 		}
 	}
@@ -210,7 +225,7 @@ func (m *model) migrate(n int) (int, api.Errno) {
 		}
 		plain, _ := m.at(path, m.rev)
 		m.draws++
-		m.add(deed{op: put(path, plain, -1), key: m.write(), draw: m.draws})
+		m.add(deed{op: put(path, plain, -1), key: m.write(), draw: m.draws, sealedFor: path})
 	}
 	return min(n, len(paths)), api.OK
 }
@@ -250,6 +265,62 @@ func (m *model) destroy(k int) api.Errno {
 	return api.OK
 }
 
+func (m *model) plant(path string, rev int) api.Errno {
+	switch {
+	case len(path) == 0, len(path) > 16:
+		return api.ErrOp
+	case rev < 1, rev > m.rev, m.givenUp[rev-1], m.deeds[rev-1].op.Kind == api.Delete:
+		return api.ErrNone
+	case len(m.entries()) == m.room:
+		return api.ErrFull
+	}
+	d := m.deeds[rev-1]
+	d.op.Path = path
+	m.add(d)
+	if m.turn == api.Gated {
+		m.turn = api.Promoted
+	}
+	return api.OK
+}
+
+func (m *model) place(pod, node int) api.Errno {
+	if pod < 0 || pod > 7 || node < -1 || node > 3 {
+		return api.ErrArg
+	}
+	m.nodes[pod] = node
+	return api.OK
+}
+
+func (m *model) refer(pod int, path string, on bool) api.Errno {
+	switch {
+	case pod < 0, pod > 7, len(path) == 0, len(path) > 16:
+		return api.ErrArg
+	case on && !m.needs[pod][path] && len(m.needs[pod]) == 8:
+		return api.ErrMany
+	case on:
+		m.needs[pod][path] = true
+	default:
+		delete(m.needs[pod], path)
+	}
+	return api.OK
+}
+
+func (m *model) fetch(s, node int, path string) (string, api.Errno) {
+	switch {
+	case !m.isServer(s):
+		return "", api.ErrServer
+	case node < 0 || node > 3:
+		return "", api.ErrArg
+	}
+	for pod := range m.nodes {
+		if m.nodes[pod] == node && m.needs[pod][path] {
+			plain, _, e := m.get(s, path, 0, false)
+			return plain, e
+		}
+	}
+	return "", api.ErrDenied
+}
+
 // luck chooses arguments: mostly right ones, at times wrong ones.
 type luck struct{ *rand.Rand }
 
@@ -265,6 +336,22 @@ func (l luck) path() string {
 		return []string{"", strings.Repeat("a", 17), strings.Repeat("\x00", 300)}[l.Intn(3)]
 	}
 	return []string{"a", "ab", "b", "a\x00", "\xff", strings.Repeat("a", 16)}[l.Intn(6)]
+}
+
+// need chooses what a pod may need: of more paths than a pod can have.
+func (l luck) need() string {
+	if l.Intn(2) == 0 {
+		return l.path()
+	}
+	return counting('0'+l.Intn(10), 1)
+}
+
+// upTo chooses a number of 0 to n - 1, at times a wrong one.
+func (l luck) upTo(n int) int {
+	if l.Intn(15) == 0 {
+		return []int{-2, -1, n, n + 1, math.MaxInt, math.MinInt}[l.Intn(6)]
+	}
+	return l.Intn(n)
 }
 
 func (l luck) rev(last int) int {
@@ -380,48 +467,81 @@ func turnStep(x book, m *model, l luck) {
 	}
 }
 
+// podStep makes one call about pods of both, and compares the answers.
+func podStep(x book, m *model, l luck) {
+	x.t.Helper()
+	pod := l.upTo(api.MaxPods)
+	if l.Intn(2) == 0 {
+		pod = 3 // so that one has its fill at times
+	}
+	path := l.need()
+	switch l.Intn(8) {
+	case 0:
+		node := l.upTo(api.MaxNodes)
+		x.place(pod, node, m.place(pod, node))
+	case 1, 2, 3, 4:
+		on := l.Intn(5) != 0
+		x.refer(pod, path, on, m.refer(pod, path, on))
+	default:
+		s, node := l.server(len(m.seen)), l.upTo(api.MaxNodes)
+		plain, e := m.fetch(s, node, path)
+		x.fetch(s, node, path, plain, e)
+	}
+}
+
+// plantStep makes a call of Plant of both, and compares the answers. Mostly the path is one that is not the entry's own.
+func plantStep(x book, m *model, l luck) {
+	x.t.Helper()
+	path, rev := l.path(), l.rev(m.rev)
+	if rev > 0 && rev <= m.rev && l.Intn(3) == 0 {
+		path = m.deeds[rev-1].sealedFor
+	}
+	x.plant(path, rev, m.plant(path, rev))
+}
+
+// anyStep makes one call of both; Plant in one of so many, in none if that is 0.
+func anyStep(x book, m *model, l luck, often, plants int) {
+	x.t.Helper()
+	switch {
+	case plants > 0 && l.Intn(plants) == 0:
+		plantStep(x, m, l)
+	case l.Intn(often) < 3:
+		turnStep(x, m, l)
+	case l.Intn(6) == 0:
+		podStep(x, m, l)
+	default:
+		step(x, m, l)
+	}
+}
+
 // TestAgainstModel makes drawn calls, right and wrong ones, and looks at everything after each.
 func TestAgainstModel(t *testing.T) {
 	l := luck{rand.New(rand.NewSource(10))}
-	turned := 0
-	for range 150 {
+	turned := [2]int{} // of the coffers without Plant, and with it
+	for n := range 240 {
 		servers, room := 1+l.Intn(api.MaxServers), 1+l.Intn(api.MaxRoom)
 		if l.Intn(2) == 0 {
 			room = 1 + l.Intn(6)
 		}
 		often := []int{5, 10, 40}[l.Intn(3)]
+		plants := 0
+		if n%2 == 1 {
+			plants = []int{10, 50, 200}[l.Intn(3)]
+		}
 		x := blind(t, servers, room)
 		m := newModel(servers, room)
+		watch := newWatch(x, plants > 0)
 		for range 500 {
-			if l.Intn(often) < 3 {
-				turnStep(x, m, l)
-			} else {
-				step(x, m, l)
-			}
+			anyStep(x, m, l, often, plants)
 			x.state(m.state())
 			x.entries(m.entries()...)
-			soundKeys(x, m)
+			watch.look(m.destroyed)
 		}
 		if m.destroyed[0] {
-			turned++
+			turned[n%2]++
 		}
 	}
-	if turned < 50 {
-		t.Errorf("only %d of 150 coffers were turned: the draws look at too little", turned)
-	}
-}
-
-// soundKeys looks that no entry has a key that was destroyed, and that no two have one draw (P15).
-func soundKeys(x book, m *model) {
-	x.t.Helper()
-	draws := map[int]bool{}
-	for _, entry := range x.Entries() {
-		if entry.Gone {
-			continue
-		}
-		if m.destroyed[entry.Key-1] || draws[entry.Draw] {
-			x.t.Fatalf("P15: %+v is kept, of a key that was destroyed or a draw that was used", entry)
-		}
-		draws[entry.Draw] = true
+	if turned[0] < 40 || turned[1] < 20 {
+		t.Errorf("only %d of 240 coffers were turned: the draws look at too little", turned)
 	}
 }

@@ -37,16 +37,21 @@ func (x *Coffer) mayRead(s int) api.Errno {
 // read tells a server the secret that a path had at a revision, and of which revision it is. A text that is no path needs no test of its own: no entry has it.
 func (x *Coffer) read(s int, path string, rev int) (string, int, api.Errno) {
 	entry := x.newest(path, rev)
-	if entry.Rev == 0 || entry.Gone {
-		return "", 0, api.ErrNone
-	}
-	by := x.key(entry.Key)
-	if by.came > x.servers[s].seen {
-		return "", 0, api.ErrKey
-	}
-	plain, e := x.opened(entry)
+	plain, e := x.openedFor(s, entry)
 	if e != api.OK {
 		return "", 0, e
 	}
 	return plain, entry.Rev, api.OK
+}
+
+// openedFor tells a server the secret of an entry, if it is one.
+func (x *Coffer) openedFor(s int, entry api.Entry) (string, api.Errno) {
+	if entry.Rev == 0 || entry.Gone {
+		return "", api.ErrNone
+	}
+	by := x.key(entry.Key)
+	if by.came > x.servers[s].seen {
+		return "", api.ErrKey
+	}
+	return x.opened(entry)
 }

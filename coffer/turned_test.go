@@ -166,21 +166,6 @@ func TestReadChangedEntry(t *testing.T) {
 	}
 }
 
-// A secret that does not open is not passed over for an older one; at an older revision that one is told.
-func TestReadsTheNewestAlone(t *testing.T) {
-	x := newCoffer(t, 1)
-	x.Refresh(0)
-	for n := range 2 {
-		begins(t, x, 0, put("a", "one"), api.OK)
-		commits(t, x, 0, n+1, api.OK)
-	}
-	x.entries[1].Draw = 9
-	reads(t, x, 0, "a", "", 0, api.ErrSealed)
-	if p, r, e := x.GetAt(0, "a", 1); p != "one" || r != 1 || e != api.OK {
-		t.Errorf("P9: GetAt(0, a, 1) = %q, %d, %d", p, r, e)
-	}
-}
-
 // Nothing of a Put's secret is kept in the open while it is under way, and nothing of it when it is over.
 func TestUnderWayIsSealed(t *testing.T) {
 	x := newCoffer(t, 1)
@@ -223,31 +208,6 @@ func migrates(t *testing.T, x *Coffer, n, moved int, want api.Errno) {
 	}
 }
 
-// A path whose newest entry does not open is passed over: it takes no room, no draw and no revision.
-func TestMigratePassesOverWhatDoesNotOpen(t *testing.T) {
-	x := turned(t, 6, "a", "b", "a", "c")
-	x.entries[2].Draw = 9 // the newest of "a"; the older one would open
-	migrates(t, x, 1, 1, api.OK)
-	migrates(t, x, 20, 1, api.OK)
-	for i, path := range []string{"b", "c"} {
-		want := api.Entry{Path: path, Rev: 5 + i, Key: 2, Draw: 5 + i, Sealed: sealedBy(2, 5+i, path, path+"!")}
-		if got := x.entries[4+i]; got != want {
-			t.Errorf("P12: the entry is %+v, want %+v", got, want)
-		}
-	}
-	// The coffer is full by now, but there is nothing to move.
-	migrates(t, x, 20, 0, api.OK)
-	if e := x.Compact(6); e != api.OK {
-		t.Fatalf("P10: Compact = %d", e)
-	}
-	if e := x.Gate(); e != api.ErrUsed {
-		t.Errorf("P12: Gate = %d, want ErrUsed", e)
-	}
-	if e := x.Destroy(1); e != api.ErrGate {
-		t.Errorf("P12: Destroy(1) = %d, want ErrGate", e)
-	}
-}
-
 // What is under a key that was destroyed does not open either.
 func TestMigratePassesOverDestroyedKeys(t *testing.T) {
 	x := turned(t, 10, "a", "b")
@@ -256,13 +216,6 @@ func TestMigratePassesOverDestroyedKeys(t *testing.T) {
 	if len(x.entries) != 2 || x.draws != 2 {
 		t.Errorf("P12: %d entries and %d draws, want 2 of each", len(x.entries), x.draws)
 	}
-}
-
-// Which epoch a server has seen does not matter to Migrate.
-func TestMigrateNeedsNoServer(t *testing.T) {
-	x := turned(t, 10, "a")
-	x.Crash(0)
-	migrates(t, x, 20, 1, api.OK)
 }
 
 // Secrets under several old keys are moved in the order of their paths; the turn is over when all old keys are destroyed, in whatever order.

@@ -362,6 +362,17 @@ func TestReadsWhileTurning(t *testing.T) {
 	}
 }
 
+// Which epoch a server has seen does not matter to Migrate.
+func TestMigrateNeedsNoServer(t *testing.T) {
+	x := awake(t, 2, 10)
+	x.does(0, put("a", "one", 0), 1, api.OK)
+	x.turn(2, 2)
+	x.crash(0, api.OK)
+	x.crash(1, api.OK)
+	x.migrate(20, 1, api.OK)
+	x.entries(secret("a", "one", 1, 1), sealedBy(2, "a", "one", 2, 2))
+}
+
 // wrongMoves are numbers that Migrate refuses.
 var wrongMoves = []int{-1, -2, 21, 22, 256, 257, 1 << 32, 1<<32 + 1, -1 << 32, math.MaxInt, math.MinInt}
 
